@@ -1,0 +1,1 @@
+"""Wordlaws: all linear invariants of word programs."""

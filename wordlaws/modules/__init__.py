@@ -1,0 +1,1 @@
+"""Modules of vectors: their bases, their duals and objects for them."""
