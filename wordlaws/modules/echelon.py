@@ -101,3 +101,11 @@ def few_spanning(width, vectors):
         insert(width, doubled, multiplied(width, vectors[index], 2))
     # By the lemma of Nakayama, vectors that span the module together with its double span it alone.
     return [some[place] for place in growing(width, doubled, [vectors[index] for index in some])]
+
+
+def kernel(width, size, vectors):
+    """Return the basis of all vectors of this size whose dot products with the given ones are 0."""
+    many = len(vectors)
+    # Each row has the products of a unit vector in front of it; where all products are 0, the rest is in the kernel.
+    marked = [tuple([vector[column] for vector in vectors]) + unit(size, column) for column in range(size)]
+    return tuple([row[many:] for row in echelon(width, marked) if pivot_column(row) >= many])

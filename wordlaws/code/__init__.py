@@ -1,0 +1,1 @@
+"""Rows, matrices and programs."""
