@@ -62,7 +62,7 @@ def check_call(case, function, checks, args, named=None, right=None):
     expected = next((wrong for wrong in (check(args) for check in checks) if wrong), None)
     result, error = outcome(function, args, named)
     case.assertEqual(look((args, named)), before)
-    told = f"{function.__name__}{before}: {error!r}"
+    told = f"{function.__name__}{before[:3000]}: {error!r}"
     if expected is None:
         case.assertIsNone(error, told)
         again, none = outcome(function, copy.deepcopy(args), copy.deepcopy(named))

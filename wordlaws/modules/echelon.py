@@ -46,6 +46,8 @@ def with_plain_pivot(width, vector, column):
     """Return the multiple of the vector by a word with an inverse whose pivot, in this column, is a power of two."""
     pivot = vector[column]
     odd = pivot // (pivot & -pivot)
+    if odd == 1:
+        return vector
     return multiplied(width, vector, inverse(width, odd))
 
 
@@ -53,7 +55,8 @@ def insert(width, rows, vector):
     """Add the vector to the span of the rows, and return whether the span has grown.
 
     The rows are a dict from the columns of their pivots. Whenever one is put there, what it becomes without its pivot
-    is inserted as well: so a vector is in the span exactly if the rows reduce it to zero.
+    is inserted as well, unless its pivot is 1, where that is zero: so a vector is in the span exactly if the rows
+    reduce it to zero.
     """
     grown = False
     pending = [vector]
@@ -66,7 +69,8 @@ def insert(width, rows, vector):
         if held is None or rest[column] & -rest[column] < held[column]:
             grown = True
             rows[column] = with_plain_pivot(width, rest, column)
-            pending.append(without_pivot(width, rows[column]))
+            if rows[column][column] > 1:
+                pending.append(without_pivot(width, rows[column]))
             rest = held
         if rest is not None:
             pending.append(less_multiple(width, rest, rows[column], rest[column] // rows[column][column]))
@@ -78,6 +82,11 @@ def echelon(width, vectors):
     rows = {}
     for vector in vectors:
         insert(width, rows, vector)
+    return settled(width, rows)
+
+
+def settled(width, rows):
+    """Return the basis of the span of the rows, a dict that was filled by `insert`."""
     basis = ()
     for column in sorted(list(rows), reverse=True):
         basis = (reduced(width, basis, rows[column]),) + basis
