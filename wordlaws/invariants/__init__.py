@@ -1,0 +1,1 @@
+"""Invariants, the papers that prove or break them, contracts and preconditions."""
