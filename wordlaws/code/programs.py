@@ -28,7 +28,7 @@ def is_program(value):
         scope = (width, all_variables(shared, procedure), counts)
         if not fits_block(scope, procedure[4], MAX_NEST):
             return False
-    return sum([count_statements(procedure[4]) for procedure in procedures]) <= MAX_STATEMENTS
+    return count_all(value) <= MAX_STATEMENTS
 
 
 def make_program(width, *procedures, shared=()):
@@ -110,6 +110,11 @@ def count_statements(block):
         for inner in blocks_in(statement):
             total = total + count_statements(inner)
     return total
+
+
+def count_all(program):
+    """Return the number of statements of the program, all blocks included."""
+    return sum([count_statements(procedure[4]) for procedure in program[2]])
 
 
 def called_in(block):

@@ -29,6 +29,11 @@ def solution(width, size, vectors, values):
     need_vectors(width, size, vectors)
     if not fits_words(width, len(vectors), values):
         raise InvalidVector("the values are a tuple of words, one for each of the vectors")
+    return solved(width, size, vectors, values)
+
+
+def solved(width, size, vectors, values):
+    """Return a vector of this size whose dot products with the vectors are the values, or None if there is none."""
     # With its value in front, each vector must have the dot product 0 with the solution behind -1.
     marked = [(value,) + vector for value, vector in zip(values, vectors)]
     basis = kernel(width, size + 1, echelon(width, marked))
