@@ -128,7 +128,7 @@ class Renamed(Case):
             news = [source.choice("abyz") + "x" * at + "k" for at in range(len(olds))]
             pairs = list(zip(olds, news))
             found = self.check(program, pairs, None)
-            if number % 4 == 0:
+            if number % 12 == 0:
                 self.check_states(program, found) if program in SMALL else self.check_bases(program, found)
             self.check(program, list(zip(olds, olds[1:] + olds[:1])), None)
 
@@ -140,7 +140,7 @@ class Renamed(Case):
                 olds = source.sample(names, source.randint(0, len(names)))
                 news = [source.choice("abyz") + "x" * at + "k" for at in range(len(olds))]
                 found = self.check(program, list(zip(olds, news)), inside)
-                if number % 4 == 0:
+                if number % 12 == 0:
                     self.check_states(program, found) if program in SMALL else self.check_bases(program, found)
                 self.check(program, list(zip(olds, olds[1:] + olds[:1])), inside)
 
@@ -479,10 +479,12 @@ class Unrolled(Case):
 
     def test_small(self):
         seen = 0
-        for program, point in points_with(SMALL, "repeat"):
-            seen += 1
-            self.check_states(program, self.check(program, point))
-        self.assertGreater(seen, 50)
+        for number, (program, point) in enumerate(points_with(SMALL, "repeat")):
+            found = self.check(program, point)
+            if number % 4 == 0:
+                seen += 1
+                self.check_states(program, found)
+        self.assertGreater(seen, 25)
 
     def test_large(self):
         for program, point in points_with(LARGE, "repeat"):
@@ -647,7 +649,7 @@ def needed(program, point, row):
             if here is None or here[0] != "call":
                 for move in plain.moves_at(program, (name, place), (0,)):
                     names = found[(name, plain.next_place(program, (name, place), move))]
-                    for word in names:
+                    for word in sorted(names):
                         if here and here[0] in ("set", "input") and here[1] == word:
                             if here[0] == "set":
                                 found[(name, place)] |= set(terms(program, name, here[2])) - {""}
@@ -656,14 +658,14 @@ def needed(program, point, row):
                 continue
             _, targets, callee, arguments = here
             last = (callee, plain.exit_of(program, callee))
-            for word in found[(name, plain.next_of(place))]:
+            for word in sorted(found[(name, plain.next_of(place))]):
                 if word in targets:
                     found[last] |= {plain.procedure(program, callee)[3][targets.index(word)]}
                 elif word in program[1]:
                     found[last] |= {word}
                 else:
                     found[(name, place)] |= {word}
-            for word in set(found[(callee, (0,))]):
+            for word in sorted(found[(callee, (0,))]):
                 parameters = plain.procedure(program, callee)[1]
                 if word in program[1]:
                     found[(name, place)] |= {word}

@@ -159,10 +159,10 @@ class Procedures(Case):
 class SeveralEdits(Case):
     def test_one_after_another(self):
         done = 0
-        for number, program in enumerate(SMALL):
+        for number, program in enumerate(SMALL[::2]):
             source = brute.seeded(number)
             edits, now = [], program
-            for _ in range(6):
+            for _ in range(5):
                 for edit in some_edits(now, source):
                     try:
                         now = edit.applied(now)
@@ -176,7 +176,7 @@ class SeveralEdits(Case):
                            Several(Several(), *edits[:half], Several(*edits[half:])), sum(edits, Several())):
                 self.assertTrue(self.check(nested, program, now))
                 self.assertEqual((len(nested), str(nested)), (len(edits), f"{len(edits)} edits"))
-        self.assertGreater(done, 200)
+        self.assertGreater(done, 100)
 
     def test_no_parts(self):
         for program in KNOWN:

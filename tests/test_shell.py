@@ -139,7 +139,7 @@ class Questions(Case):
             for word, observed in (("contracts", False), ("observed", True)):
                 basis = contract_basis(program, name, observed=observed)
                 self.assertEqual(shell.run(f"{word} {name}"), lines([" ".join(map(str, row)) for row in basis]))
-        for point in plain.points(program)[number % 2::2]:
+        for point in plain.points(program)[number % 4::4]:
             self.check_point(shell, program, point, number)
 
     def check_point(self, shell, program, point, number):

@@ -79,7 +79,9 @@ def rewritten(program, *changes):
         pair = breaking_pair(entrances, point, added(atlas.word_width, row, multiplied(atlas.word_width, old, -1)))
         if pair is not None:
             raise NotInvariant(trail_to(entrances, point, pair))
-        rows.setdefault(point, {})[index] = row
+        if point not in rows:
+            rows[point] = {}
+        rows[point][index] = row
     return with_rows(program, atlas, rows)
 
 

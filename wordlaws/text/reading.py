@@ -3,20 +3,21 @@
 The functions of this file raise ParseError for a text that cannot be read at all. What they return for another text
 need not have this text, and need not be of the kind: that is for their callers to see.
 """
-from wordlaws.code.programs import MAX_NEST, MAX_VARIABLES, fits_name
+from wordlaws.code.programs import MAX_BLOCKS, MAX_NEST, MAX_PROCEDURES, MAX_STATEMENTS, MAX_VARIABLES, fits_name
 from wordlaws.errors import ParseError
 
 # No number of the formats is longer, and Python refuses to read numbers of thousands of digits.
 MAX_DIGITS = 40
 # A choose indents by four blanks what stands in its blocks.
 MAX_BLANKS = 2 + 4 * MAX_NEST
+MAX_LINES = 2 + MAX_PROCEDURES + MAX_STATEMENTS * (1 + MAX_BLOCKS)
 
 
 def read_program(text):
     """Return what the text of a program says."""
+    if text.count("\n") < 1 or text.count("\n") >= MAX_LINES:
+        raise ParseError("a program begins with two lines, and does not have more than some hundred")
     lines = [blanks_and_rest(line) for line in text.split("\n")]
-    if len(lines) < 2:
-        raise ParseError("a program begins with two lines on its width and its globals")
     width = read_number(behind("width ", lines[0]))
     shared = read_names(behind("globals ", lines[1]))
     procedures = []
