@@ -141,6 +141,30 @@ class Expressions(unittest.TestCase):
             if isinstance(node.func, ast.Name) and node.func.id in LIST_TAKERS:
                 self.assertFalse(any(isinstance(arg, ast.GeneratorExp) for arg in node.args), told)
 
+    def test_views_and_sets_are_used_on_the_spot(self):
+        """Ranges, zips and views stand behind `in` or in a call that iterates; sets in sorted, len or a comparison."""
+        takers = ("list", "tuple", "dict", "sorted", "sum", "any", "all", "enumerate", "zip", "min", "max", "len", "reversed")
+        for module, tree in TREES.items():
+            parents = {child: node for node in ast.walk(tree) for child in ast.iter_child_nodes(node)}
+            for node in ast.walk(tree):
+                if not isinstance(node, ast.Call):
+                    continue
+                name = getattr(node.func, "id", None) or getattr(node.func, "attr", None)
+                above = parents[node]
+                called = above.func.id if isinstance(above, ast.Call) and isinstance(above.func, ast.Name) else None
+                told = f"{module} line {node.lineno}"
+                if name in ("range", "zip", "enumerate", "reversed", "items", "keys", "values"):
+                    iterated = isinstance(above, (ast.For, ast.comprehension)) and above.iter is node
+                    self.assertTrue(iterated or called in takers, told)
+                if name == "set":
+                    self.assertTrue(called in ("sorted", "len") or isinstance(above, ast.Compare), told)
+
+    def test_what_is_compared_by_is(self):
+        for told, node in nodes(ast.Compare):
+            if any(isinstance(sign, (ast.Is, ast.IsNot)) for sign in node.ops):
+                of_class = isinstance(node.left, ast.Call) and node.left.func.id == "type"
+                self.assertTrue(of_class or isinstance(node.comparators[0], ast.Constant), told)
+
     def test_no_floats_and_no_sets_of_numbers(self):
         for told, node in nodes(ast.Constant, ast.Div, ast.Set, ast.Pow):
             self.assertFalse(isinstance(node, (ast.Div, ast.Pow)), told)
