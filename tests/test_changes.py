@@ -401,7 +401,7 @@ class Inlined(Case):
             program = (3, (), (callee, ("main", (), tuple("pqrs"[:locals_there]), (), (("call", (), "f", ()),))))
             self.assertEqual(self.check(program, ("main", (0,))) is None, locals_there + many > 4)
         put = ("set", "x", (1, 1))
-        for inner, outer in ((10, 40), (20, 20), (29, 2), (20, 21), (10, 41), (29, 3), (30, 0)):
+        for inner, outer in ((10, 38), (10, 39), (20, 18), (20, 19), (28, 2), (28, 3), (29, 0), (29, 1), (30, 0), (0, 58), (0, 59)):
             callee = ("f", ("y",), (), ("y",), (("set", "y", (0, 3)),) * inner)
             body = (put,) * outer + (("call", ("x",), "f", ((0, 1),)),)
             program = (3, (), (callee, ("main", (), ("x",), (), body)))

@@ -232,7 +232,7 @@ class Form(Case):
         return [
             Edit(), Put(("main", (0,)), SET), Put(("main", (0,)), ("input", "x")), Put(("main", (1,)), SET), Put(1, None),
             Take(("main", (0,))), Take(("main", (1,))), Take(None), Replace(("main", (0,)), SET),
-            Replace(("main", (1,)), SET), Add(P[2][0]), Add(R[2][1]), Add("f"), Drop("f"), Drop("main"), Drop(None),
+            Replace(("main", (1,)), SET), Replace(("main", (0,)), ("input", "x")), Add(P[2][0]), Add(R[2][1]), Add("f"), Drop("f"), Drop("main"), Drop(None),
             Several(), Several(Take(1)), Several(Take(2)), Several(Take(1), Take(2)), Several(Several(Take(1)), Take(2)),
             Several(Take(1), Several(Take(2))), Several(1, 2), Several(None), Several(Several()), Several(Several(None)),
             Several(Edit()), Take([1]), Take({1: [2]}), Take({}), Take((1,)), Take([1, (2, [3])]), Several([1]),
@@ -261,6 +261,7 @@ class Form(Case):
         self.assertIs(Take(Module.zero(4, 1)) == Take(Module(4, 1, (16 - 16,))), True)
 
     def test_texts_and_lengths(self):
+        self.assertEqual(len(Edit()), 1)
         words = {Put: "put", Take: "take", Replace: "replace", Add: "add", Drop: "drop"}
         for edit in self.edits():
             if type(edit) in words:

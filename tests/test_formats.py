@@ -215,6 +215,9 @@ class Programs(Case):
             self.refused(parse_program, head.replace("globals -", "globals " + ",".join(some)))
         others = "".join(f"\nprocedure {name} parameters - locals - results -" for name in "nopqr")
         self.assertTrue(self.parsed(head + others))
+        most = head + ("\n  choose" + "\n    block" * 4) * 60 + others
+        self.assertEqual((most.count("\n"), self.parsed(most)), (307, True))
+        self.assertFalse(self.parsed(most + "\n  input x"))
         self.assertFalse(self.parsed(head + others + "\nprocedure s parameters - locals - results -"))
 
     def test_long_texts(self):

@@ -90,11 +90,9 @@ def exchanged(program, point):
     name, place = point
     between = (name, place[:-1] + (place[-1] + 1,))
     first = node_at(atlas, point)
-    if first.statement is None or node_at(atlas, between).statement is None:
-        raise InvalidChange("there are no two statements at the point")
+    if first.statement is None or not can_exchange(atlas, first, node_at(atlas, between)):
+        raise InvalidChange("there are no two statements at the point that can be exchanged")
     second = node_at(atlas, between)
-    if not can_exchange(atlas, first, second):
-        raise InvalidChange("the two statements cannot be exchanged")
     points = {other: (other,) for other in all_points(atlas)}
     points[between] = ()
     return rebuilt(program, {point: (second.statement,), between: (first.statement,)}), points

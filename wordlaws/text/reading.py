@@ -158,7 +158,7 @@ def read_numbers(text):
 
 def read_number(text):
     """Return the number."""
-    if not has_digits(text) or len(text) > MAX_DIGITS:
+    if len(text) > MAX_DIGITS or not has_digits(text):
         raise ParseError("this is not a number")
     return int(text)
 
